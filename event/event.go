@@ -1,0 +1,60 @@
+// Package event: what is an event, and into which versions it goes: see DOC.md, 'Words'.
+package event
+
+import "chronicle/api"
+
+// NoTask is how the newer versions name the task of an event that was written without one in version 1.
+const NoTask = "-"
+
+// IsVersion tells whether events have ever been written in a version.
+func IsVersion(version int) bool {
+	return 1 <= version && version <= api.Newest
+}
+
+// Is tells whether e is an event.
+func Is(e api.Event) bool {
+	return api.Begun <= e.Kind && e.Kind <= api.Noted &&
+		isName(e.Task) &&
+		0 <= e.Time && e.Time <= api.MaxTime &&
+		isLine(e.Body) &&
+		areTags(e.Tags)
+}
+
+// GoesInto tells whether e is an event that can be written in a version.
+func GoesInto(version int, e api.Event) bool {
+	if !IsVersion(version) || !Is(e) {
+		return false
+	}
+	if version <= 2 && len(e.Tags) > 0 {
+		return false
+	}
+	return version > 1 || e.Time == 0 && e.Kind != api.Noted && e.Task != NoTask
+}
+
+func isLine(s string) bool {
+	if len(s) > api.MaxText {
+		return false
+	}
+	for i := range len(s) {
+		if s[i] < 0x20 || s[i] > 0x7e {
+			return false
+		}
+	}
+	return true
+}
+
+func isName(s string) bool {
+	return s != "" && isLine(s)
+}
+
+func areTags(tags []string) bool {
+	if len(tags) > api.MaxTags {
+		return false
+	}
+	for i, tag := range tags {
+		if !isName(tag) || i > 0 && tags[i-1] >= tag {
+			return false
+		}
+	}
+	return true
+}
