@@ -31,12 +31,17 @@ func GoesInto(version int, e api.Event) bool {
 	return version > 1 || e.Time == 0 && e.Kind != api.Noted && e.Task != NoTask
 }
 
+// IsPlain tells whether a byte may stand in a line.
+func IsPlain(c byte) bool {
+	return 0x20 <= c && c <= 0x7e
+}
+
 func isLine(s string) bool {
 	if len(s) > api.MaxText {
 		return false
 	}
 	for i := range len(s) {
-		if s[i] < 0x20 || s[i] > 0x7e {
+		if !IsPlain(s[i]) {
 			return false
 		}
 	}
