@@ -1,7 +1,11 @@
 // Package event: what is an event, and into which versions it goes: see DOC.md, 'Words'.
 package event
 
-import "chronicle/api"
+import (
+	"strings"
+
+	"chronicle/api"
+)
 
 // NoTask is how the newer versions name the task of an event that was written without one in version 1.
 const NoTask = "-"
@@ -16,7 +20,7 @@ func Is(e api.Event) bool {
 	return api.Begun <= e.Kind && e.Kind <= api.Noted &&
 		isName(e.Task) &&
 		0 <= e.Time && e.Time <= api.MaxTime &&
-		isLine(e.Body) &&
+		IsLine(e.Body) &&
 		areTags(e.Tags)
 }
 
@@ -31,12 +35,22 @@ func GoesInto(version int, e api.Event) bool {
 	return version > 1 || e.Time == 0 && e.Kind != api.Noted && e.Task != NoTask
 }
 
+// Copy makes an event that shares no memory with e.
+func Copy(e api.Event) api.Event {
+	var tags []string
+	for _, tag := range e.Tags {
+		tags = append(tags, strings.Clone(tag))
+	}
+	return api.Event{Kind: e.Kind, Task: strings.Clone(e.Task), Time: e.Time, Body: strings.Clone(e.Body), Tags: tags}
+}
+
 // IsPlain tells whether a byte may stand in a line.
 func IsPlain(c byte) bool {
 	return 0x20 <= c && c <= 0x7e
 }
 
-func isLine(s string) bool {
+// IsLine tells whether a text is a line.
+func IsLine(s string) bool {
 	if len(s) > api.MaxText {
 		return false
 	}
@@ -49,7 +63,7 @@ func isLine(s string) bool {
 }
 
 func isName(s string) bool {
-	return s != "" && isLine(s)
+	return s != "" && IsLine(s)
 }
 
 func areTags(tags []string) bool {

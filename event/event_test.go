@@ -2,6 +2,7 @@ package event
 
 import (
 	"math"
+	"slices"
 	"strings"
 	"testing"
 
@@ -85,5 +86,24 @@ func TestVersions(t *testing.T) {
 		if IsVersion(version) || GoesInto(version, api.Event{Kind: 1, Task: "t"}) {
 			t.Errorf("IsVersion(%d): it is not", version)
 		}
+	}
+}
+
+func TestCopy(t *testing.T) {
+	tags := []string{"a", "b", "mine"}
+	e := api.Event{Kind: api.Done, Task: "t", Time: 7, Body: "x", Tags: tags[:2]}
+	c := Copy(e)
+	if c.Kind != e.Kind || c.Task != e.Task || c.Time != e.Time || c.Body != e.Body || !slices.Equal(c.Tags, e.Tags) {
+		t.Errorf("Copy(%+v) = %+v", e, c)
+	}
+	room := c.Tags[:cap(c.Tags)]
+	for i := range room {
+		room[i] = "yours"
+	}
+	if !slices.Equal(tags, []string{"a", "b", "mine"}) {
+		t.Errorf("writing into a copy made the list %q", tags)
+	}
+	if c := Copy(api.Event{Tags: tags[:0]}); cap(c.Tags) != 0 {
+		t.Errorf("a copy of no tags has room for %d", cap(c.Tags))
 	}
 }

@@ -44,7 +44,8 @@ func Decode(version int, s string) (api.Event, api.Errno) {
 	if !ok {
 		return api.Event{}, api.ErrData
 	}
-	return ownTexts(e), api.OK
+	// Its texts are still pieces of s.
+	return event.Copy(e), api.OK
 }
 
 func writeLetter(e api.Event) string {
@@ -150,14 +151,4 @@ func (f *fields) text() string {
 	text, rest, _ := wire.ReadText(f.rest)
 	f.rest = rest
 	return text
-}
-
-// ownTexts makes texts that are no longer pieces of what was read: an answer shares no memory with an argument.
-func ownTexts(e api.Event) api.Event {
-	e.Task = strings.Clone(e.Task)
-	e.Body = strings.Clone(e.Body)
-	for i, tag := range e.Tags {
-		e.Tags[i] = strings.Clone(tag)
-	}
-	return e
 }
